@@ -8,11 +8,15 @@ MOST_CELL = 15
 # No refusal shows what was handed in: a thing of any kind may fail when it is put into words.
 
 
-def is_whole_within(thing, least, most):
+def is_whole_from(thing, least):
     # Python counts True and False as whole numbers; here they are none.
     if not isinstance(thing, int) or isinstance(thing, bool):
         return False
-    return least <= thing and thing <= most
+    return least <= thing
+
+
+def is_whole_within(thing, least, most):
+    return is_whole_from(thing, least) and thing <= most
 
 
 def is_cell(thing):
@@ -49,6 +53,16 @@ def need_cell(cell):
         raise BadCell("this is no cell")
 
 
+def need_sides(wide, high):
+    if not is_side(wide) or not is_side(high):
+        raise BadSize("no picture has such a side")
+
+
+def need_like_sizes(one, other):
+    if one != other:
+        raise BadSize("the sizes are unlike")
+
+
 def need_place(picture, x, y):
     size = size_of(picture)
     if not is_whole_within(x, 0, size[0] - 1) or not is_whole_within(y, 0, size[1] - 1):
@@ -61,10 +75,13 @@ def size_of(picture):
 
 
 def blank_picture(wide, high, cell=0):
-    if not is_side(wide) or not is_side(high):
-        raise BadSize("no picture has such a side")
+    need_sides(wide, high)
     need_cell(cell)
     return [[cell] * wide for y in range(high)]
+
+
+def copied_rows(rows):
+    return [list(row) for row in rows]
 
 
 def cell_at(picture, x, y):
@@ -75,14 +92,13 @@ def cell_at(picture, x, y):
 def with_cell(picture, x, y, cell):
     need_place(picture, x, y)
     need_cell(cell)
-    rows = [list(row) for row in picture]
+    rows = copied_rows(picture)
     rows[y][x] = cell
     return rows
 
 
 def unlike_cells(one, other):
-    if size_of(one) != size_of(other):
-        raise BadSize("the pictures are of unlike sizes")
+    need_like_sizes(size_of(one), size_of(other))
     places = []
     for y, row in enumerate(one):
         for x, cell in enumerate(row):

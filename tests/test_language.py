@@ -24,6 +24,8 @@ DUNDERS = "__init__ __eq__ __repr__ __str__ __len__ __all__ __version__".split()
 WORDS = """type typing typing_extensions enum Enum IntEnum StrEnum Flag IntFlag Generic Protocol ABC ABCMeta namedtuple
 NamedTuple TypedDict TYPE_CHECKING abstractmethod""".split()
 WITHIN_WORDS = "dataclass overload contextmanager".split()
+WALKED = "zip enumerate reversed range items keys values".split()
+WALKERS = "list tuple dict sorted sum any all enumerate zip".split()
 UNUSED = "register mro elements open input version_info with_traceback add_note format format_map".split()
 
 
@@ -56,6 +58,39 @@ def names_used(node):
     if isinstance(node, (ast.FunctionDef, ast.ClassDef)):
         return [node.name]
     return []
+
+
+def called_name(node):
+    """What is called there: a name, or a method's name; else nothing."""
+    if isinstance(node, ast.Call) and isinstance(node.func, ast.Name):
+        return node.func.id
+    if isinstance(node, ast.Call) and isinstance(node.func, ast.Attribute):
+        return node.func.attr
+    return ""
+
+
+def walked_at_once(tree):
+    """The nodes that are walked where they stand."""
+    found = []
+    for node in ast.walk(tree):
+        if isinstance(node, (ast.For, ast.comprehension)):
+            found.append(node.iter)
+        if called_name(node) in WALKERS and node.args:
+            found += node.args if called_name(node) == "zip" else node.args[:1]
+        if called_name(node) in ("min", "max") and len(node.args) == 1:
+            found.append(node.args[0])
+        if called_name(node) == "join" and isinstance(node.func.value, ast.Constant):
+            found += node.args
+    return found
+
+
+def bound_in_functions(tree):
+    """Parameters and locals, also those of lambdas and comprehensions."""
+    tops = [target for row in tree.body if isinstance(row, ast.Assign) for target in row.targets]
+    names = [node.arg for node in ast.walk(tree) if isinstance(node, ast.arg)]
+    names += [node.id for node in ast.walk(tree)
+              if isinstance(node, ast.Name) and isinstance(node.ctx, ast.Store) and node not in tops]
+    return names
 
 
 class TestFiles(unittest.TestCase):
@@ -207,6 +242,21 @@ class TestCode(unittest.TestCase):
                 self.assertIn(node.func.attr, METHODS + own + ["__init__"])
 
         self.check_each(look)
+
+    def test_walked_at_once(self):
+        for path, tree in trees():
+            good = walked_at_once(tree)
+            for node in ast.walk(tree):
+                if called_name(node) in WALKED:
+                    with self.subTest(file=path.name, line=node.lineno):
+                        self.assertIn(node, good)
+
+    def test_no_local_is_called_like_an_import_or_a_class(self):
+        for path, tree in trees():
+            taken = [one.name for row in tree.body if isinstance(row, ast.ImportFrom) for one in row.names]
+            taken += [row.name for row in tree.body if isinstance(row, ast.ClassDef)]
+            with self.subTest(file=path.name):
+                self.assertEqual([name for name in bound_in_functions(tree) if name in taken], [])
 
     def test_the_top_of_a_file(self):
         for path, tree in trees():

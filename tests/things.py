@@ -78,9 +78,21 @@ def no_sides():
     return no_numbers() + [(f"number {k} of those beyond", number) for k, number in enumerate(numbers)]
 
 
+def no_steps():
+    """Pairs (what it is, the thing): none is a whole number from 1 on."""
+    numbers = [0, -1, -2, -24, -2 ** 64, -HUGE]
+    return no_numbers() + [(f"number {k} of those below", number) for k, number in enumerate(numbers)]
+
+
 def made_picture(wide, high):
     """A picture of that size in which neighbours differ and all sixteen cells come."""
     return [[(7 * x + 5 * y + x * y) % 16 for x in range(wide)] for y in range(high)]
+
+
+def row_twice():
+    """A picture in which one list stands as both rows."""
+    row = [1, 2]
+    return [row, row]
 
 
 def no_pictures():
@@ -99,6 +111,60 @@ def no_pictures():
     for what, cell in no_cells():
         pairs.append(("alone: " + what, [[cell]]))
         pairs.append(("at the end: " + what, [[0, 1], [2, cell]]))
+    return pairs
+
+
+def made_mask(wide, high):
+    """A mask of that size in which cells that it has and lacks stand mixed."""
+    return mask_by(wide, high, lambda x, y: (3 * x + 5 * y + x * y) % 7 in (0, 1, 4))
+
+
+def mask_by(wide, high, has):
+    """The mask of the places (x, y) of which has tells so: figures are written from the right cell on."""
+    return (wide, tuple(int("".join("01"[has(x, y)] for x in reversed(range(wide))), 2) for y in range(high)))
+
+
+def places_in(mask):
+    wide, rows = mask
+    return [(x, y) for y, row in enumerate(rows) for x in range(wide) if format(row, "b").zfill(wide)[::-1][x] == "1"]
+
+
+def no_masks():
+    """Pairs (what it is, the thing): none is a mask."""
+    pairs = odd_things() + odd_texts() + [("a number", 1), ("a list", [1, (1,)]), ("a picture", [[1]])]
+    pairs += [("a mask in a list", [(1, (1,))]), ("a mask in a tuple", ((1, (1,)),)), ("one thing", (1,))]
+    pairs += [("rows alone", ((1, 1),)), ("three things", (1, (1,), 1)), ("rows twice", (1, (1,), (1,)))]
+    pairs += [("a third that is None", (1, (1,), None)), ("the other way about", ((1,), 1)), ("a text of two", "11")]
+    pairs += [("a list of rows", (1, [1])), ("a list of no rows", (1, [])), ("all lists", [1, [1]])]
+    pairs += [("a number for rows", (1, 1)), ("None for rows", (1, None)), ("a text for rows", (1, "1"))]
+    pairs += [("a dict for rows", (1, {0: 1})), ("a set for rows", (1, {1})), ("a range for rows", (1, range(1)))]
+    pairs += [("no rows", (1, ())), ("25 rows", (1, (1,) * 25)), ("26 rows", (24, (0,) * 26)), ("two numbers", (1, 1))]
+    pairs += [("rows of lists", (2, ([0, 1],))), ("rows of tuples", (2, ((0, 1),)))]
+    for what, wide in no_sides():
+        pairs.append(("as width: " + what, (wide, (0,))))
+        pairs.append(("as width of two rows: " + what, (wide, (1, 1))))
+    for what, row in no_numbers() + [("-1", -1), ("-2 ** 64", -2 ** 64), ("huge", HUGE), ("huge below", -HUGE)]:
+        pairs.append(("as row: " + what, (3, (row,))))
+        pairs.append(("as last row: " + what, (24, (0, 1, row))))
+        pairs.append(("as first row: " + what, (24, (row, 1, 0))))
+    for wide in range(1, 25):
+        pairs.append((f"2 ** {wide}", (wide, (2 ** wide,))))
+        pairs.append((f"2 ** {wide} behind", (wide, (0, 2 ** wide))))
+        pairs.append((f"2 ** {wide} ahead", (wide, (2 ** wide, 0))))
+        pairs.append((f"2 ** {wide} + 1", (wide, (2 ** wide + 1,))))
+    return pairs
+
+
+def no_colours():
+    """Pairs (what it is, the thing): none is a colour."""
+    pairs = no_numbers() + [("a number", 1), ("a list of three", [1, 2, 3]), ("a text of three", "123")]
+    pairs += [("no parts", ()), ("one part", (1,)), ("two parts", (1, 2)), ("four parts", (1, 2, 3, 4))]
+    pairs += [("a colour in a tuple", ((1, 2, 3),)), ("a colour in a list", [(1, 2, 3)]), ("a set", {1, 2, 3})]
+    pairs += [("a dict", {0: 1, 1: 2, 2: 3}), ("its text", "#010203"), ("a range", range(3)), ("bytes of three", b"123")]
+    pairs += [("a fourth that is None", (1, 2, 3, None)), ("three colours", ((1, 2, 3),) * 3), ("its number", 66051)]
+    beyond = [("-1", -1), ("256", 256), ("-255", -255), ("2 ** 64", 2 ** 64), ("huge", HUGE), ("huge below", -HUGE)]
+    for what, part in no_numbers() + beyond:
+        pairs += [("red: " + what, (part, 1, 2)), ("green: " + what, (1, part, 2)), ("blue: " + what, (1, 2, part))]
     return pairs
 
 
