@@ -27,20 +27,25 @@ def is_side(thing):
     return is_whole_within(thing, 1, MOST_SIDE)
 
 
+def is_list_of(thing, is_one):
+    return isinstance(thing, list) and all([is_one(part) for part in thing])
+
+
 def is_list_of_cells(thing):
-    return isinstance(thing, list) and all([is_cell(cell) for cell in thing])
+    return is_list_of(thing, is_cell)
 
 
-def is_row(thing):
-    return is_list_of_cells(thing) and is_side(len(thing))
+def are_rows_of(thing, is_one):
+    """Whether it has the form of a picture, with such things in the place of cells."""
+    if not isinstance(thing, list) or not is_side(len(thing)):
+        return False
+    if not all([is_list_of(row, is_one) and is_side(len(row)) for row in thing]):
+        return False
+    return all([len(row) == len(thing[0]) for row in thing])
 
 
 def is_picture(thing):
-    if not isinstance(thing, list) or not is_side(len(thing)):
-        return False
-    if not all([is_row(row) for row in thing]):
-        return False
-    return all([len(row) == len(thing[0]) for row in thing])
+    return are_rows_of(thing, is_cell)
 
 
 def need_picture(picture):
@@ -51,6 +56,11 @@ def need_picture(picture):
 def need_cell(cell):
     if not is_cell(cell):
         raise BadCell("this is no cell")
+
+
+def need_cells(cells, most):
+    if not is_list_of_cells(cells) or len(cells) > most:
+        raise BadCell("this is no list of cells, or of too many")
 
 
 def need_sides(wide, high):

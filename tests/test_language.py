@@ -26,6 +26,9 @@ NamedTuple TypedDict TYPE_CHECKING abstractmethod""".split()
 WITHIN_WORDS = "dataclass overload contextmanager".split()
 WALKED = "zip enumerate reversed range items keys values".split()
 WALKERS = "list tuple dict sorted sum any all enumerate zip".split()
+# What methods and values of the program's own may be called, though Python's own values have such methods.
+OWN_METHODS = METHODS + ["add", "discard"]
+OWN_VALUES = "count index title find get join lower upper split strip copy add".split()
 UNUSED = "register mro elements open input version_info with_traceback add_note format format_map".split()
 
 
@@ -82,6 +85,16 @@ def walked_at_once(tree):
         if called_name(node) == "join" and isinstance(node.func.value, ast.Constant):
             found += node.args
     return found
+
+
+def methods_of(tree):
+    classes = [row for row in tree.body if isinstance(row, ast.ClassDef)]
+    return [row.name for one in classes for row in one.body if isinstance(row, ast.FunctionDef)]
+
+
+def values_of(tree):
+    """The names of values that are given to objects."""
+    return [node.attr for node in ast.walk(tree) if isinstance(node, ast.Attribute) and isinstance(node.ctx, ast.Store)]
 
 
 def bound_in_functions(tree):
@@ -231,17 +244,40 @@ class TestCode(unittest.TestCase):
             self.assertFalse(hasattr(builtins, node.arg), node.arg)
 
     def test_methods(self):
-        own = []
-        for path, tree in trees():
-            for node in ast.walk(tree):
-                if isinstance(node, ast.ClassDef):
-                    own += [row.name for row in node.body if isinstance(row, ast.FunctionDef)]
+        own = [name for path, tree in trees() for name in methods_of(tree)]
 
         def look(path, node):
             if isinstance(node, ast.Call) and isinstance(node.func, ast.Attribute) and path.name != "__main__.py":
                 self.assertIn(node.func.attr, METHODS + own + ["__init__"])
 
         self.check_each(look)
+
+    def test_no_name_is_a_method_and_a_value(self):
+        methods = [name for path, tree in trees() for name in methods_of(tree)]
+        values = [name for path, tree in trees() for name in values_of(tree)]
+        self.assertEqual([name for name in values if name in methods], [])
+
+    def test_names_of_own_methods_and_values(self):
+        pythons = [name for kind in (str, int, list, tuple, dict, set, bytes, float, ValueError) for name in dir(kind)]
+        for path, tree in trees():
+            with self.subTest(file=path.name):
+                methods = [name for name in methods_of(tree) if name not in OWN_METHODS + DUNDERS]
+                self.assertEqual([name for name in methods if name in pythons], [])
+                values = [name for name in values_of(tree) if name not in OWN_VALUES]
+                self.assertEqual([name for name in values if name in pythons], [])
+
+    def test_sets(self):
+        for path, tree in trees():
+            good = []
+            for node in ast.walk(tree):
+                if called_name(node) in ("sorted", "len") and not node.keywords:
+                    good += node.args
+                if isinstance(node, ast.Compare):
+                    good += node.comparators
+            for node in ast.walk(tree):
+                if called_name(node) in ("set", "frozenset") or isinstance(node, ast.Set):
+                    with self.subTest(file=path.name, line=node.lineno):
+                        self.assertIn(node, good)
 
     def test_walked_at_once(self):
         for path, tree in trees():

@@ -73,6 +73,17 @@ def no_cells():
     return no_numbers() + [(f"number {k} of those beyond", number) for k, number in enumerate(numbers)]
 
 
+def no_lists_of_cells():
+    """Pairs (what it is, the thing): none is a list of cells, however many."""
+    pairs = odd_things() + odd_texts() + [("a cell", 0), ("a text of figures", "0123"), ("a tuple of cells", (0, 1))]
+    pairs += [("a picture", [[0, 1]]), ("an empty list in a list", [[]]), ("a text in a list", ["0"])]
+    for what, thing in no_cells():
+        pairs.append(("alone: " + what, [thing]))
+        pairs += [(f"at place {place}: {what}", [1, 2, 3, 4][:place] + [thing] + [1, 2, 3, 4][place:])
+                  for place in range(5)]
+    return pairs
+
+
 def no_sides():
     numbers = [0, -1, 25, 26, -24, 2 ** 64, HUGE, -HUGE]
     return no_numbers() + [(f"number {k} of those beyond", number) for k, number in enumerate(numbers)]
@@ -166,6 +177,11 @@ def no_colours():
     for what, part in no_numbers() + beyond:
         pairs += [("red: " + what, (part, 1, 2)), ("green: " + what, (1, part, 2)), ("blue: " + what, (1, 2, part))]
     return pairs
+
+
+def made_colours(many):
+    """So many unlike colours, in no order of their numbers."""
+    return [((90 * place + 11) % 256, (77 * place) % 256, 255 - place) for place in range(many)]
 
 
 def same_lists(one, other):
